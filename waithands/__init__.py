@@ -1,0 +1,1 @@
+"""Waithands: hands called and sent home by what waits."""

@@ -1,0 +1,41 @@
+"""The words, names and kinds of numbers that several files need."""
+
+# In the order of the numbers in a triple that was seen.
+WHATS = ("come", "done", "wait")
+
+OVER = "over"
+UNDER = "under"
+EACH = "each"
+
+LETTERS = "abcdefghijklmnopqrstuvwxyz"
+MOST_LETTERS = 8
+
+MOST_UNITS = 10 ** 12
+MOST_HANDS = 12
+
+
+def is_whole(thing):
+    """Whether it is a whole number; True and False are none."""
+    return isinstance(thing, int) and not isinstance(thing, bool)
+
+
+def is_from(thing, least):
+    """Whether it is a whole number from least up."""
+    return is_whole(thing) and thing >= least
+
+
+def is_between(thing, least, most):
+    """Whether it is a whole number from least to most."""
+    return is_whole(thing) and least <= thing <= most
+
+
+def is_tuple_of(thing, many):
+    """Whether it is a tuple of so many things."""
+    return isinstance(thing, tuple) and len(thing) == many
+
+
+def is_name(thing):
+    """Whether it is a name: one to eight letters from a to z."""
+    if not isinstance(thing, str) or not 1 <= len(thing) <= MOST_LETTERS:
+        return False
+    return all([sign in LETTERS for sign in thing])
