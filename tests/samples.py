@@ -72,3 +72,82 @@ def longer_and_shorter(parts):
         altered.append(parts[:place] + parts[place + 1:])
         altered.append(parts[:place + 1] + parts[place:])
     return altered
+
+
+def kinds_of(thing):
+    """The kinds of a thing and of all parts within it."""
+    if isinstance(thing, (list, tuple)):
+        return (type(thing), [kinds_of(part) for part in thing])
+    return type(thing)
+
+
+def some_row(chance):
+    """A row of a rule, as a seeded chance gives it, with numbers that small loads get to."""
+    what, span = chance.choice(("come", "done", "wait")), chance.randint(1, 4)
+    if chance.random() < 0.3:
+        return (what, span, "each", chance.randint(1, 6), 0)
+    step = chance.choice([step for step in range(-4, 5) if step != 0])
+    return (what, span, chance.choice(("over", "under")), chance.randint(0, 6), step)
+
+
+def some_post(chance):
+    """A small post, as a seeded chance gives it."""
+    least, most = sorted((chance.randint(0, 6), chance.randint(0, 12)))
+    rules = [tuple(some_row(chance) for row in range(chance.randint(1, 4))) for rule in range(chance.randint(0, 3))]
+    rests = (chance.choice((0, 0, 1, 4)), chance.choice((0, 0, 1, 9)))
+    room = chance.choice((0, 5, 20, 60, TERA))
+    return (chance.randint(1, 4), room, (least, most), chance.randint(0, 4), chance.randint(1, 6), rests, tuple(rules))
+
+
+def some_stand(chance):
+    """A stand of small numbers, as a seeded chance gives it."""
+    hands = [chance.choice((0, 0, 1, 2)) for place in range(5)]
+    seen = tuple(tuple(chance.randint(0, 12) for number in range(3)) for triple in range(3))
+    rest = chance.choice((0, 0, 1, 9))
+    return (chance.randint(0, 30), chance.randint(0, 12 - sum(hands)), tuple(hands), chance.randint(0, 5), rest, seen)
+
+
+def slow_wish(post, hands, newest):
+    """The wish, reckoned with loops as [7] tells it."""
+    wishes = []
+    for rule in post[6]:
+        says = []
+        for what, span, sign, number, step in rule:
+            total = sum(newest[at]["come done wait".split().index(what)] for at in range(span))
+            if sign == "each":
+                many = 0
+                while many * number * span < total and many < 13:
+                    many += 1
+                says.append(many)
+            elif (total > number * span) if sign == "over" else (total < number * span):
+                says.append(hands + step)
+        wishes.append((says + [hands])[0])
+    wished = max(wishes) if wishes else hands
+    return sorted((post[2][0], wished, post[2][1]))[1]
+
+
+def slow_beat(post, stand, come, free=12):
+    """A beat, reckoned with one number for each hand: 0 where it is ready, else in how many beats it begins."""
+    pace, room, bounds, late, every, (up, down), rules = post
+    wait, ready, called, since, rest, seen = stand
+    crew = [0] * ready + [place + 1 for place in range(5) for hand in range(called[place])]
+    crew = [max(hand - 1, 0) for hand in crew]
+    away = 0 if wait + come <= room else come if wait >= room else wait + come - room
+    wait += come - away
+    done = 0
+    for hand in crew:
+        if hand == 0:
+            done += min(pace, wait - done)
+    wait -= done
+    newest = [(come, done, wait)] + list(seen)
+    resting, rest, since, change = rest > 0, max(rest - 1, 0), since + 1, 0
+    if since >= every:
+        since = 0
+        if not resting:
+            change = min(slow_wish(post, len(crew), newest) - len(crew), free)
+    if change > 0:
+        crew, rest = crew + [late + 1] * change, up
+    if change < 0:
+        crew, rest = sorted(crew)[:change], down
+    called = tuple(crew.count(place + 1) for place in range(5))
+    return ((wait, crew.count(0), called, since, rest, tuple(newest[:3])), done, away, change)
