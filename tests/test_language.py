@@ -105,6 +105,39 @@ class Rows(unittest.TestCase):
                     self.assertIsNone(node.args.kwarg)
                     self.assertEqual(node.args.posonlyargs, [])
 
+    def test_locals_bear_no_import_s_and_no_class_s_name(self):
+        for file in files():
+            tree = ast.parse(file.read_text())
+            taken = {row.name for row in tree.body if isinstance(row, ast.ClassDef)}
+            taken |= {name.name for row in tree.body if isinstance(row, ast.ImportFrom) for name in row.names}
+            for node in ast.walk(tree):
+                if isinstance(node, ast.arg):
+                    with self.subTest(file=file.name, row=node.lineno):
+                        self.assertNotIn(node.arg, taken)
+                        self.assertFalse(hasattr(builtins, node.arg))
+                if isinstance(node, ast.Name) and isinstance(node.ctx, ast.Store):
+                    with self.subTest(file=file.name, row=node.lineno):
+                        self.assertNotIn(node.id, taken)
+
+    def test_no_name_is_both_a_method_and_a_value(self):
+        methods, values = set(), set()
+        for name, node in nodes():
+            if isinstance(node, ast.ClassDef):
+                methods |= {row.name for row in node.body if isinstance(row, ast.FunctionDef)}
+            if isinstance(node, ast.Attribute) and isinstance(node.ctx, ast.Store):
+                values.add(node.attr)
+        self.assertEqual(methods & values, set())
+
+    def test_no_two_files_draw_from_one_another(self):
+        draws = {}
+        for file in files():
+            rows = [row for row in ast.parse(file.read_text()).body if isinstance(row, ast.ImportFrom)]
+            draws[file.stem] = {row.module.partition(".")[2] for row in rows}
+        while draws:
+            free = [name for name, others in draws.items() if not others & set(draws)]
+            self.assertTrue(free, draws)
+            draws = {name: others for name, others in draws.items() if name not in free}
+
     def test_names_are_plain(self):
         for name, node in nodes():
             if isinstance(node, ast.Name):

@@ -54,6 +54,30 @@ class Numbers(unittest.TestCase):
         self.assertEqual(told, [False, True, True, True, False])
 
 
+class WrittenNumbers(unittest.TestCase):
+
+    def test_figures(self):
+        for text, number in (("0", 0), ("7", 7), ("10", 10), ("1234567890", 1234567890), ("1000000000000", 10 ** 12)):
+            told = words.number_of(text, 0, 10 ** 12)
+            self.assertEqual(told, number)
+            self.assertIs(type(told), int)
+
+    def test_from_the_least_to_the_most(self):
+        told = [words.number_of(str(number), 3, 5) for number in range(2, 7)]
+        self.assertEqual(told, [None, 3, 4, 5, None])
+        self.assertIsNone(words.number_of("1000000000001", 0, 10 ** 12))
+
+    def test_what_is_not_so_written(self):
+        others = ("1\n", "1_0", "1.0", "a", "1a", "a1", "x", "\u0661", "\u00b2")
+        for text in ("", "00", "01", "-1", "+1", " 1", "1 ") + others:
+            with self.subTest(text=text):
+                self.assertIsNone(words.number_of(text, 0, 10 ** 12))
+
+    def test_very_many_figures(self):
+        for text in ("9" * 14, "9" * 5000, "1" + "0" * 6000, "0" * 6000):
+            self.assertIsNone(words.number_of(text, 0, 10 ** 12))
+
+
 class TheWords(unittest.TestCase):
 
     def test_the_words_of_rows(self):

@@ -9,6 +9,8 @@ EACH = "each"
 
 LETTERS = "abcdefghijklmnopqrstuvwxyz"
 MOST_LETTERS = 8
+FIGURES = "0123456789"
+MOST_FIGURES = 13
 
 MOST_UNITS = 10 ** 12
 MOST_HANDS = 12
@@ -39,3 +41,14 @@ def is_name(thing):
     if not isinstance(thing, str) or not 1 <= len(thing) <= MOST_LETTERS:
         return False
     return all([sign in LETTERS for sign in thing])
+
+
+def number_of(text, least, most):
+    """The number from least to most that a text writes by figures, None where it is none such."""
+    # No number here has more figures than 10 ** 12, and Python reads only so many.
+    if not 1 <= len(text) <= MOST_FIGURES or not all([sign in FIGURES for sign in text]):
+        return None
+    if text[0] == "0" and text != "0":
+        return None
+    number = int(text)
+    return number if least <= number <= most else None
