@@ -1,5 +1,7 @@
 """Posts, stands and wrong things that several tests ask of, and ways to alter them."""
 
+import copy
+
 TERA = 10 ** 12
 
 OVER_ROW = ("come", 1, "over", 5, 2)
@@ -10,6 +12,13 @@ NOTHING = (0, 0, 0)
 
 PLAIN_POST = (3, 40, (1, 6), 2, 2, (1, 3), ((OVER_ROW, UNDER_ROW), (EACH_ROW,)))
 PLAIN_STAND = (7, 3, (1, 0, 2, 0, 1), 2, 4, ((5, 6, 7), (8, 9, 10), (0, 0, 0)))
+
+# Where something waits it calls a hand, which does all there is and is sent home: under a load of 1 it swings for ever.
+SWINGING = (2, 9, (0, 1), 0, 1, (0, 0), ((("wait", 1, "over", 0, 1), ("wait", 1, "under", 1, -1)),))
+# It fills up to its room by one unit a beat, without a change.
+FILLING = (1, 7, (0, 0), 0, 1, (0, 0), ())
+# It calls two hands, one by one, as long as something waits.
+GROWING = (1, 50, (0, 2), 0, 1, (2, 0), ((("wait", 1, "over", 0, 1),),))
 
 # Of other kinds than a number, a tuple or one of the words of a row.
 OTHER_KINDS = (
@@ -151,3 +160,79 @@ def slow_beat(post, stand, come, free=12):
         crew, rest = sorted(crew)[:change], down
     called = tuple(crew.count(place + 1) for place in range(5))
     return ((wait, crew.count(0), called, since, rest, tuple(newest[:3])), done, away, change)
+
+
+def some_curve(chance):
+    """A small curve, as a seeded chance gives it."""
+    return tuple((chance.randint(0, 8), chance.randint(0, 3)) for pair in range(chance.randint(1, 3)))
+
+
+def stretches(load):
+    """The pair of how many beats and how many units, for each stretch of a load."""
+    return [
+        (end - begin, sum(load[begin:end]))
+        for begin in range(len(load)) for end in range(begin + 1, len(load) + 1)
+    ]
+
+
+def slow_within(curve, load):
+    """Whether each stretch is below each pair's bound."""
+    return all(units <= burst + rate * many for burst, rate in curve for many, units in stretches(load))
+
+
+def slow_spares(curve, load):
+    """The spares, stretch by stretch that ends with the load."""
+    told = []
+    for burst, rate in curve:
+        ends = [burst + rate * many - sum(load[len(load) - many:]) for many in range(1, len(load) + 1)]
+        told.append(min([burst] + ends))
+    return tuple(told)
+
+
+def loads_within(curve, longest):
+    """All loads within a curve, the shorter ones first, of one length the least first."""
+    loads = [[]]
+    for load in loads:
+        if len(load) < longest:
+            for come in range(min(burst + rate for burst, rate in curve) + 1):
+                if slow_within(curve, load + [come]):
+                    loads.append(load + [come])
+    return loads
+
+
+def load_by(entries, place):
+    """What led to an entry, by from and come."""
+    load = []
+    while entries[place][2] is not None:
+        load = [entries[place][3]] + load
+        place = entries[place][2]
+    return load
+
+
+def lists_of(thing):
+    """All lists within a thing of lists and tuples, itself too."""
+    lists = [thing] if isinstance(thing, list) else []
+    if isinstance(thing, (list, tuple)):
+        for part in thing:
+            lists += lists_of(part)
+    return lists
+
+
+def spoil(thing):
+    """Changes every list within a thing."""
+    for each in lists_of(thing):
+        each.append("more")
+        each[0] = None
+
+
+def assert_own(case, ask):
+    """What is asked twice is told the same, shares no list, and stays so where told lists are changed."""
+    one = ask()
+    expected = copy.deepcopy(one)
+    other = ask()
+    case.assertEqual(other, expected)
+    lists = lists_of([one, other])
+    case.assertEqual(len({id(each) for each in lists}), len(lists))
+    spoil(one)
+    case.assertEqual(other, expected)
+    case.assertEqual(ask(), expected)

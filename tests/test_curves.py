@@ -5,36 +5,9 @@ import itertools
 import random
 import unittest
 
-from tests.samples import TERA, kinds_of
+from tests.samples import TERA, kinds_of, slow_spares, slow_within, some_curve
 from waithands.curves import least_bursts, most_next, spares, spares_next, within
 from waithands.errors import Beyond
-
-
-def stretches(load):
-    """The pair of how many beats and how many units, for each stretch of a load."""
-    return [
-        (end - begin, sum(load[begin:end]))
-        for begin in range(len(load)) for end in range(begin + 1, len(load) + 1)
-    ]
-
-
-def slow_within(curve, load):
-    """Whether each stretch is below each pair's bound."""
-    return all(units <= burst + rate * many for burst, rate in curve for many, units in stretches(load))
-
-
-def slow_spares(curve, load):
-    """The spares, stretch by stretch that ends with the load."""
-    told = []
-    for burst, rate in curve:
-        ends = [burst + rate * many - sum(load[len(load) - many:]) for many in range(1, len(load) + 1)]
-        told.append(min([burst] + ends))
-    return tuple(told)
-
-
-def some_curve(chance):
-    """A small curve, as a seeded chance gives it."""
-    return tuple((chance.randint(0, 8), chance.randint(0, 3)) for pair in range(chance.randint(1, 3)))
 
 
 def some_load(chance):

@@ -4,7 +4,8 @@ import copy
 import random
 import unittest
 
-from tests.samples import NOTHING, PLAIN_POST, PLAIN_STAND, TERA, kinds_of, slow_beat, some_post, some_stand, swapped
+from tests.samples import FILLING, GROWING, NOTHING, PLAIN_POST, PLAIN_STAND, SWINGING, TERA
+from tests.samples import kinds_of, slow_beat, some_post, some_stand, swapped
 from waithands.alike import alike
 from waithands.beats import beat
 from waithands.errors import TooLong
@@ -12,13 +13,6 @@ from waithands.plays import after, played, rests_at, round_of
 from waithands.posts import first_stand
 
 NONE_CALLED = (0, 0, 0, 0, 0)
-
-# Where something waits it calls a hand, which does all there is and is sent home: under a load of 1 it swings for ever.
-SWINGING = (2, 9, (0, 1), 0, 1, (0, 0), ((("wait", 1, "over", 0, 1), ("wait", 1, "under", 1, -1)),))
-# It fills up to its room by one unit a beat, without a change.
-FILLING = (1, 7, (0, 0), 0, 1, (0, 0), ())
-# It calls two hands, one by one, as long as something waits.
-GROWING = (1, 50, (0, 2), 0, 1, (2, 0), ((("wait", 1, "over", 0, 1),),))
 
 
 def some_load(chance, many):

@@ -31,6 +31,11 @@ def bursts_of(curve):
     return tuple([burst for burst, rate in curve])
 
 
+def least_rate(curve):
+    """The least of all rates: so much may come at every beat."""
+    return min([rate for burst, rate in curve])
+
+
 def most_next(curve, spare):
     """How much may come next at most."""
     return min([rate + left for (burst, rate), left in zip(curve, spare)])
