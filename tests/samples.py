@@ -57,13 +57,13 @@ def swapped(thing, path, part):
         return part
     place = path[0]
     within = swapped(thing[place], path[1:], part)
-    return thing[:place] + (within,) + thing[place + 1:]
+    return thing[:place] + type(thing)([within]) + thing[place + 1:]
 
 
 def paths_of(thing, path=()):
-    """The paths of all parts within a thing of tuples, its own path () first."""
+    """The paths of all parts within a thing of lists and tuples, its own path () first."""
     paths = [path]
-    if isinstance(thing, tuple):
+    if isinstance(thing, (list, tuple)):
         for place, part in enumerate(thing):
             paths += paths_of(part, path + (place,))
     return paths
@@ -81,6 +81,24 @@ def longer_and_shorter(parts):
         altered.append(parts[:place] + parts[place + 1:])
         altered.append(parts[:place + 1] + parts[place:])
     return altered
+
+
+def altered(thing):
+    """The thing with one part otherwise, at any place and depth."""
+    things = []
+    for path in paths_of(thing):
+        part = part_at(thing, path)
+        others = [None, True, False, "", "1", [], (), {}, {0: part}, [part], (part,)]
+        if isinstance(part, int):
+            others += [part + 1, part - 1, -part - 1, str(part), part + TERA]
+        if isinstance(part, (list, tuple)):
+            others += [list(part) if isinstance(part, tuple) else tuple(part)]
+            others += [part + type(part)([more]) for more in (0, None, [], ())]
+            for place in range(len(part)):
+                others.append(part[:place] + part[place + 1:])
+                others.append(part[:place + 1] + part[place:])
+        things += [swapped(thing, path, other) for other in others]
+    return things
 
 
 def kinds_of(thing):

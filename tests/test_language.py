@@ -17,6 +17,12 @@ OWN_NAMES = set(
     " ZeroDivisionError ArithmeticError OverflowError RuntimeError NotImplementedError AttributeError"
     " StopIteration".split()
 )
+# L25
+OWN_METHODS = set(
+    "append clear copy count endswith extend find get index insert isalnum isalpha isdigit islower isspace isupper"
+    " items join keys ljust lower lstrip partition pop remove replace reverse rfind rjust rpartition rsplit rstrip"
+    " setdefault split splitlines startswith strip update upper values zfill bit_length".split()
+)
 # L17
 WORDS_OUT = re.compile(
     r"\b(type|typing|typing_extensions|enum|Enum|IntEnum|StrEnum|Flag|IntFlag|Generic|Protocol|ABC|ABCMeta"
@@ -127,6 +133,29 @@ class Rows(unittest.TestCase):
             if isinstance(node, ast.Attribute) and isinstance(node.ctx, ast.Store):
                 values.add(node.attr)
         self.assertEqual(methods & values, set())
+
+    def test_methods_and_values_are_python_s_listed_ones_or_the_package_s(self):
+        trees = [ast.parse(file.read_text()) for file in files()]
+        classes = [row for tree in trees for row in tree.body if isinstance(row, ast.ClassDef)]
+        methods = {row.name for each in classes for row in each.body if isinstance(row, ast.FunctionDef)}
+        stores = [node for name, node in nodes() if isinstance(node, ast.Attribute) and isinstance(node.ctx, ast.Store)]
+        values = {node.attr for node in stores}
+        # A kept set's own (L24).
+        called = OWN_METHODS | methods | {"add", "discard"}
+        for name, node in nodes():
+            if isinstance(node, ast.Call) and isinstance(node.func, ast.Attribute):
+                with self.subTest(file=name, row=node.lineno):
+                    self.assertIn(node.func.attr, called)
+            if isinstance(node, ast.Attribute):
+                with self.subTest(file=name, row=node.lineno):
+                    self.assertIn(node.attr, called | values)
+
+    def test_is_stands_beside_none_true_and_false_alone(self):
+        for name, node in nodes():
+            if isinstance(node, ast.Compare) and any(isinstance(sign, (ast.Is, ast.IsNot)) for sign in node.ops):
+                with self.subTest(file=name, row=node.lineno):
+                    self.assertIsInstance(node.comparators[0], ast.Constant)
+                    self.assertIn(node.comparators[0].value, (None, True, False))
 
     def test_no_two_files_draw_from_one_another(self):
         draws = {}

@@ -78,6 +78,29 @@ class WrittenNumbers(unittest.TestCase):
             self.assertIsNone(words.number_of(text, 0, 10 ** 12))
 
 
+class Shapes(unittest.TestCase):
+
+    SHAPE = ("put", words.ANY_NAME, (1, 12), words.ANY_WORD, ("up", "down"))
+
+    def test_what_is_asked_for_stands_there(self):
+        self.assertEqual(words.found_in("put a 1 x/y up", self.SHAPE), ["a", 1, "x/y", "up"])
+        self.assertEqual(words.found_in("put abcdefgh 12 put down", self.SHAPE), ["abcdefgh", 12, "put", "down"])
+        self.assertEqual(words.found_in("put", ("put",)), [])
+        self.assertEqual(words.found_in("", (words.ANY_WORD,)), [""])
+        self.assertEqual(words.found_in("0/7", ((0, 9), (0, 9)), "/"), [0, 7])
+
+    def test_what_is_otherwise(self):
+        for text in (
+            "", "put", "Put a 1 x up", "put  a 1 x up", " put a 1 x up", "put a 1 x up ", "put a 1 x up up",
+            "put A 1 x up", "put abcdefghi 1 x up", "put a 0 x up", "put a 13 x up", "put a 01 x up", "put a 1 x over",
+            "put a 1 x updown", "put a 1 x", "put a 1 up",
+        ):
+            with self.subTest(text=text):
+                self.assertIsNone(words.found_in(text, self.SHAPE))
+        for text in ("0/7/1", "0", "0 7", "/", "0/", "/7", "0/10"):
+            self.assertIsNone(words.found_in(text, ((0, 9), (0, 9)), "/"))
+
+
 class TheWords(unittest.TestCase):
 
     def test_the_words_of_rows(self):

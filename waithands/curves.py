@@ -2,6 +2,8 @@
 
 from waithands.errors import Beyond
 
+MOST_PAIRS = 3
+
 
 def within(curve, load):
     """Whether a load is within a curve."""

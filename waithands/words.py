@@ -15,6 +15,10 @@ MOST_FIGURES = 13
 MOST_UNITS = 10 ** 12
 MOST_HANDS = 12
 
+# What a shape has in the place of a word that is a name, and of one that may be anything.
+ANY_NAME = ()
+ANY_WORD = None
+
 
 def is_whole(thing):
     """Whether it is a whole number; True and False are none."""
@@ -52,3 +56,31 @@ def number_of(text, least, most):
         return None
     number = int(text)
     return number if least <= number <= most else None
+
+
+def found_in(text, shape, sign=" "):
+    """The list of what a text writes where a shape asks for it, None where it isn't written by that shape.
+
+    Between two words stands the sign. A shape has a part for each word: a text, which is the word itself; a tuple of
+    texts, of which it is one; a pair of numbers, between which it writes one; ANY_NAME; or ANY_WORD.
+    """
+    words = text.split(sign)
+    if len(words) != len(shape):
+        return None
+    asked = [(word, part) for word, part in zip(words, shape) if word != part]
+    found = [asked_value(word, part) for word, part in asked]
+    return None if None in found else found
+
+
+def asked_value(word, part):
+    """What a word tells of the part of a shape that asks for it, None where it is none such."""
+    if part == ANY_WORD:
+        return word
+    if isinstance(part, str):
+        return None
+    if part == ANY_NAME:
+        return word if is_name(word) else None
+    if isinstance(part[0], str):
+        return word if word in part else None
+    least, most = part
+    return number_of(word, least, most)

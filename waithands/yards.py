@@ -6,6 +6,7 @@ from waithands.posts import first_stand, hands_of
 from waithands.words import MOST_HANDS, is_name
 
 MOST_POSTS = 5
+MOST_TOTAL = 60
 
 
 class Yard:
